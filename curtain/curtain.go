@@ -3,7 +3,12 @@ package curtain
 
 import (
 	"curtain/api"
+	"curtain/base"
+	"curtain/cell"
 	"curtain/expr"
+	"curtain/typed"
+	"curtain/work"
+	"curtain/wrong"
 )
 
 // Tidy writes an expression in its one right way (P3).
@@ -16,14 +21,33 @@ func Tidy(s string) (string, api.Errno) {
 }
 
 // Check tells what is wrong with a base (P4).
-func Check(b api.Base) api.Errno { return api.OK }
+func Check(b api.Base) api.Errno {
+	_, bad := base.Read(b)
+	return bad
+}
 
 // Quiet tells whether a function is quiet (P5).
-func Quiet(b api.Base, name string) (bool, api.Errno) { return false, api.OK }
+func Quiet(b api.Base, name string) (bool, api.Errno) {
+	f, bad := function(b, name)
+	if bad != api.OK {
+		return false, bad
+	}
+	return f.Body.Quiet, api.OK
+}
 
 // Call works a function out (P6).
 func Call(b api.Base, user string, name string, args []api.Cell) (api.Cell, []string, api.Errno) {
-	return api.Cell{}, nil, api.OK
+	f, bad := function(b, name)
+	bad = wrong.First(userWrong(user), bad)
+	if bad != api.OK {
+		return api.Cell{}, nil, bad
+	}
+	if !f.Takes(args) {
+		return api.Cell{}, nil, api.ErrArg
+	}
+	worker := work.Worker{User: user}
+	value, fault := worker.Call(f, args)
+	return cell.Own(value), worker.Notes, fault
 }
 
 // See tells which rows of a table a user sees (P7).
@@ -38,4 +62,15 @@ func Plan(b api.Base, user string, q api.Query) ([]api.Step, api.Errno) { return
 // Run answers a query (P10).
 func Run(b api.Base, user string, q api.Query) (api.Answer, api.Errno) {
 	return api.Answer{}, api.OK
+}
+
+// function is the function of this name of a base; an error, if the base is wrong or has none.
+func function(b api.Base, name string) (*typed.Func, api.Errno) {
+	read, bad := base.Read(b)
+	f := typed.Find(read.Funcs, name)
+	return f, wrong.First(bad, wrong.When(f == nil, api.ErrName))
+}
+
+func userWrong(user string) api.Errno {
+	return wrong.When(len(user) > api.MaxLong, api.ErrArg)
 }

@@ -87,7 +87,7 @@ func kindOf(piece string) Kind {
 		return Quote
 	case isParameter(piece):
 		return Parameter
-	case isWord(piece):
+	case IsWord(piece):
 		return Word
 	case isColumn(piece):
 		return Column
@@ -146,7 +146,8 @@ func isParameter(s string) bool {
 	return len(s) == 2 && s[0] == '$' && isDigit(s[1]) && s[1] != '0'
 }
 
-func isWord(s string) bool {
+// IsWord tells whether a text is a word, and may thus be a name.
+func IsWord(s string) bool {
 	if s == "" || len(s) > api.MaxWord || !isLetter(s[0]) {
 		return false
 	}
@@ -160,5 +161,5 @@ func isWord(s string) bool {
 
 func isColumn(s string) bool {
 	before, after, dotted := strings.Cut(s, ".")
-	return dotted && isWord(before) && isWord(after)
+	return dotted && IsWord(before) && IsWord(after)
 }

@@ -88,16 +88,16 @@ func standsAlone(t Token) bool {
 	case Numeral, Quote, Column, Parameter:
 		return true
 	}
-	return isValueWord(t)
+	return IsValueWord(t.Text)
 }
 
 func isHead(t Token) bool {
-	return t.Kind == Operator || t.Kind == Word && !isValueWord(t)
+	return t.Kind == Operator || t.Kind == Word && !IsValueWord(t.Text)
 }
 
-// isValueWord tells the words that are expressions by themselves from those that are heads.
-func isValueWord(t Token) bool {
-	switch t.Text {
+// IsValueWord tells the words that are expressions by themselves from those that are heads.
+func IsValueWord(word string) bool {
+	switch word {
 	case "true", "false", "user":
 		return true
 	}
