@@ -1,4 +1,4 @@
-// Package base: bases: what is wrong with them, and their functions, read.
+// Package base: bases: what is wrong with them, their functions and policies, read, and who sees which rows.
 package base
 
 import (
@@ -13,7 +13,16 @@ import (
 
 // Base is a base that is right.
 type Base struct {
-	Funcs []*typed.Func
+	Funcs  []*typed.Func
+	Tables []Table
+}
+
+// ReadFor reads a base for a user, or tells what is wrong with the user or the base.
+func ReadFor(b api.Base, user string) (Base, api.Errno) {
+	if len(user) > api.MaxLong {
+		return Base{}, api.ErrArg
+	}
+	return Read(b)
 }
 
 // Read reads a base, or tells what is wrong with it.
@@ -27,12 +36,27 @@ func Read(b api.Base) (Base, api.Errno) {
 			return Base{}, bad
 		}
 	}
-	for i, t := range b.Tables {
-		if bad := read.tableWrong(t, b.Tables[:i]); bad != api.OK {
+	for _, t := range b.Tables {
+		if bad := read.addTable(t); bad != api.OK {
 			return Base{}, bad
 		}
 	}
 	return read, api.OK
+}
+
+// Func is the function of this name.
+func (b Base) Func(name string) (*typed.Func, api.Errno) {
+	f := typed.Find(b.Funcs, name)
+	return f, wrong.When(f == nil, api.ErrName)
+}
+
+// Table is the table of this name.
+func (b Base) Table(name string) (Table, api.Errno) {
+	i := slices.IndexFunc(b.Tables, func(t Table) bool { return t.Given.Name == name })
+	if i < 0 {
+		return Table{}, api.ErrName
+	}
+	return b.Tables[i], api.OK
 }
 
 // addFunc reads a function where those ahead of it are known.
@@ -55,6 +79,24 @@ func (b *Base) addFunc(f api.Func) api.Errno {
 // isFree tells whether a further function may have this name.
 func (b *Base) isFree(name string) bool {
 	return expr.IsWord(name) && !expr.IsValueWord(name) && !typed.IsBuiltIn(name) && typed.Find(b.Funcs, name) == nil
+}
+
+// addTable reads a table where all functions are known.
+func (b *Base) addTable(t api.Table) api.Errno {
+	_, none := b.Table(t.Name)
+	bad := wrong.First(
+		wrong.When(!expr.IsWord(t.Name) || none == api.OK, api.ErrName),
+		wrong.When(!isTable(t), api.ErrTable))
+	if bad != api.OK {
+		return bad
+	}
+	policy, bad := typed.Scope{Columns: Names("row", t.Cols), Funcs: b.Funcs}.Read(t.Policy)
+	bad = wrong.First(bad, wrong.When(policy.Type != api.Truth || !policy.Quiet, api.ErrPolicy))
+	if bad != api.OK {
+		return bad
+	}
+	b.Tables = append(b.Tables, Table{Given: t, Policy: policy})
+	return api.OK
 }
 
 func areTypes(letters string) bool {

@@ -7,20 +7,41 @@ import (
 	"curtain/cell"
 	"curtain/expr"
 	"curtain/typed"
+	"curtain/work"
 	"curtain/wrong"
 )
 
-// tableWrong tells what is wrong with a table behind the earlier ones.
-func (b *Base) tableWrong(t api.Table, earlier []api.Table) api.Errno {
-	likeIt := func(other api.Table) bool { return other.Name == t.Name }
-	bad := wrong.First(
-		wrong.When(!expr.IsWord(t.Name) || slices.ContainsFunc(earlier, likeIt), api.ErrName),
-		wrong.When(!isTable(t), api.ErrTable))
-	if bad != api.OK {
-		return bad
+// Table is a table that is right, and its policy, read.
+type Table struct {
+	Given  api.Table
+	Policy typed.Expr
+}
+
+// GrantWrong is an error, if the user may not ask for the table.
+func (t Table) GrantWrong(user string) api.Errno {
+	return wrong.When(!slices.Contains(t.Given.Users, user), api.ErrGrant)
+}
+
+// SeenBy is the numbers of the rows that the user sees.
+func (t Table) SeenBy(user string) []int {
+	worker := work.Worker{User: user}
+	var seen []int
+	for i, row := range t.Given.Rows {
+		// There is no fault, as a policy is quiet.
+		if c, _ := worker.Value(t.Policy, row); c == cell.Truth(true) {
+			seen = append(seen, i)
+		}
 	}
-	policy, bad := typed.Scope{Columns: rowColumns(t.Cols), Funcs: b.Funcs}.Read(t.Policy)
-	return wrong.First(bad, wrong.When(policy.Type != api.Truth || !policy.Quiet, api.ErrPolicy))
+	return seen
+}
+
+// Names are the columns as an expression names them, where their table is called so.
+func Names(table string, cols []api.Column) []typed.Name {
+	var names []typed.Name
+	for _, c := range cols {
+		names = append(names, typed.Name{Text: table + "." + c.Name, Type: columnType(c)})
+	}
+	return names
 }
 
 func isTable(t api.Table) bool {
@@ -67,13 +88,4 @@ func areRows(rows [][]api.Cell, cols []api.Column) bool {
 func isRow(row []api.Cell, cols []api.Column) bool {
 	fits := func(c api.Cell, col api.Column) bool { return cell.Fits(c, columnType(col)) }
 	return slices.EqualFunc(row, cols, fits)
-}
-
-// rowColumns are the columns as a policy names them.
-func rowColumns(cols []api.Column) []typed.Name {
-	var names []typed.Name
-	for _, c := range cols {
-		names = append(names, typed.Name{Text: "row." + c.Name, Type: columnType(c)})
-	}
-	return names
 }

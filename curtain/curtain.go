@@ -6,7 +6,8 @@ import (
 	"curtain/base"
 	"curtain/cell"
 	"curtain/expr"
-	"curtain/typed"
+	"curtain/plan"
+	"curtain/query"
 	"curtain/work"
 	"curtain/wrong"
 )
@@ -28,8 +29,9 @@ func Check(b api.Base) api.Errno {
 
 // Quiet tells whether a function is quiet (P5).
 func Quiet(b api.Base, name string) (bool, api.Errno) {
-	f, bad := function(b, name)
-	if bad != api.OK {
+	read, bad := base.Read(b)
+	f, none := read.Func(name)
+	if bad = wrong.First(bad, none); bad != api.OK {
 		return false, bad
 	}
 	return f.Body.Quiet, api.OK
@@ -37,9 +39,9 @@ func Quiet(b api.Base, name string) (bool, api.Errno) {
 
 // Call works a function out (P6).
 func Call(b api.Base, user string, name string, args []api.Cell) (api.Cell, []string, api.Errno) {
-	f, bad := function(b, name)
-	bad = wrong.First(userWrong(user), bad)
-	if bad != api.OK {
+	read, bad := base.ReadFor(b, user)
+	f, none := read.Func(name)
+	if bad = wrong.First(bad, none); bad != api.OK {
 		return api.Cell{}, nil, bad
 	}
 	if !f.Takes(args) {
@@ -51,26 +53,35 @@ func Call(b api.Base, user string, name string, args []api.Cell) (api.Cell, []st
 }
 
 // See tells which rows of a table a user sees (P7).
-func See(b api.Base, user string, table string) ([]int, api.Errno) { return nil, api.OK }
+func See(b api.Base, user string, table string) ([]int, api.Errno) {
+	read, bad := base.ReadFor(b, user)
+	t, none := read.Table(table)
+	if bad = wrong.First(bad, none, t.GrantWrong(user)); bad != api.OK {
+		return nil, bad
+	}
+	return t.SeenBy(user), api.OK
+}
 
 // Cost tells what an order of a query's items costs (P8).
-func Cost(b api.Base, user string, q api.Query, order []int) (int, api.Errno) { return 0, api.OK }
+func Cost(b api.Base, user string, q api.Query, order []int) (int, api.Errno) {
+	read, bad := query.Read(b, user, q)
+	if bad = wrong.First(bad, read.OrderWrong(order)); bad != api.OK {
+		return 0, bad
+	}
+	return plan.Cost(read, order), api.OK
+}
 
 // Plan tells how a query is gone through (P9).
-func Plan(b api.Base, user string, q api.Query) ([]api.Step, api.Errno) { return nil, api.OK }
+func Plan(b api.Base, user string, q api.Query) ([]api.Step, api.Errno) {
+	read, bad := query.Read(b, user, q)
+	if bad != api.OK {
+		return nil, bad
+	}
+	return plan.Steps(read), api.OK
+}
 
-// Run answers a query (P10).
+// Run answers a query (P10). It tells what is wrong with one so far; a right one is not gone through yet.
 func Run(b api.Base, user string, q api.Query) (api.Answer, api.Errno) {
-	return api.Answer{}, api.OK
-}
-
-// function is the function of this name of a base; an error, if the base is wrong or has none.
-func function(b api.Base, name string) (*typed.Func, api.Errno) {
-	read, bad := base.Read(b)
-	f := typed.Find(read.Funcs, name)
-	return f, wrong.First(bad, wrong.When(f == nil, api.ErrName))
-}
-
-func userWrong(user string) api.Errno {
-	return wrong.When(len(user) > api.MaxLong, api.ErrArg)
+	_, bad := query.Read(b, user, q)
+	return api.Answer{}, bad
 }

@@ -45,12 +45,45 @@ func whole(b api.Base) api.Base {
 	return b
 }
 
+// roomyQuery is a right query of roomyBase, of which each list has spare room.
+func roomyQuery() api.Query {
+	return api.Query{
+		From:  roomy([]api.Item{{Table: "people", As: "a"}, {Table: "people", As: "b"}, {Table: "people", As: "c"}}, api.Item{Table: "people", As: "spare"}),
+		Where: "(and (loud a.h) (= a.k b.k) (loud b.h) a.h (note true) (= 1 c.k) (loud (= a.k c.k)))",
+		Outs:  roomy([]string{"a.k", "b.s"}, "spare"),
+		Order: roomy([]api.Key{{Out: 1}}, api.Key{Out: 1, Down: true}),
+		Limit: 2,
+	}
+}
+
+// roomySteps is the plan of roomyQuery.
+func roomySteps() []api.Step { return steps(step(0, 3, 0, 4), step(1, 1, 2), step(2, 5, 6)) }
+
+func wholeQuery(q api.Query) api.Query {
+	q.From, q.Outs, q.Order = q.From[:cap(q.From)], q.Outs[:cap(q.Outs)], q.Order[:cap(q.Order)]
+	return q
+}
+
 func TestCallsDoNotWriteIntoTheirArguments(t *testing.T) {
 	b := roomyBase()
 	args := roomy(in(nothing, txt("abc")), num(97))
 	Check(b)
 	Quiet(b, "f")
 	Call(b, "me", "f", args)
+	q, order := roomyQuery(), roomy([]int{2, 0, 1}, 96)
+	_, seeing := See(b, "me", "people")
+	_, costing := Cost(b, "me", q, order)
+	_, planning := Plan(b, "me", q)
+	_, running := Run(b, "me", q)
+	if seeing != api.OK || costing != api.OK || planning != api.OK || running != api.OK {
+		t.Errorf("the calls tell %d, %d, %d, %d", seeing, costing, planning, running)
+	}
+	if !reflect.DeepEqual(wholeQuery(q), wholeQuery(roomyQuery())) {
+		t.Errorf("the query is now %+v", wholeQuery(q))
+	}
+	if got := order[:cap(order)]; !slices.Equal(got[:5], []int{2, 0, 1, 96, 96}) {
+		t.Errorf("the order is now %v", got)
+	}
 	if !reflect.DeepEqual(whole(b), whole(roomyBase())) {
 		t.Errorf("the base is now %+v", whole(b))
 	}
@@ -87,8 +120,50 @@ func TestCallAnswersNewMemory(t *testing.T) {
 	}
 }
 
-func TestCallsHangOnTheirArgumentsAlone(t *testing.T) {
+// fill writes into all of a list, spare room too.
+func fill(list []int, n int) {
+	for i := range list[:cap(list)] {
+		list[:cap(list)][i] = n
+	}
+}
+
+func TestSeeAnswersNewMemory(t *testing.T) {
 	b := roomyBase()
+	first, _ := See(b, "me", "people")
+	second, _ := See(b, "me", "people")
+	fill(first, 77)
+	if !slices.Equal(second, []int{0}) {
+		t.Errorf("two answers share rows: %v", second)
+	}
+	wantSee(t, "a base of which rows were told", b, "me", "people", []int{0}, api.OK)
+}
+
+func TestPlanAnswersNewMemory(t *testing.T) {
+	b, q := roomyBase(), roomyQuery()
+	want := roomySteps()
+	wantPlan(t, b, q, want)
+	for i := range want {
+		// What is written into one list is not to be seen in another one, nor in another answer.
+		first, _ := Plan(b, "me", q)
+		second, _ := Plan(b, "me", q)
+		fill(first[i].Parts, 77)
+		for j, s := range first {
+			if j != i && !slices.Equal(s.Parts, want[j].Parts) {
+				t.Errorf("the parts %d and %d share memory: %+v", i, j, first)
+			}
+		}
+		for j := range first[:cap(first)] {
+			first[:cap(first)][j] = step(99, 99)
+		}
+		if !reflect.DeepEqual(told(second), want) {
+			t.Errorf("two answers share memory: %+v", second)
+		}
+	}
+	wantPlan(t, b, q, want)
+}
+
+func TestCallsHangOnTheirArgumentsAlone(t *testing.T) {
+	b, q := roomyBase(), roomyQuery()
 	var joined sync.WaitGroup
 	for i := range 8 {
 		joined.Go(func() {
@@ -99,6 +174,10 @@ func TestCallsHangOnTheirArgumentsAlone(t *testing.T) {
 				if value != txt("a") || len(told) != 1 || e != api.OK {
 					t.Errorf("Call beside others: %+v, %q, %d", value, told, e)
 				}
+				wantSee(t, "a shared base", b, "me", "people", []int{0}, api.OK)
+				// Each 3 of a Distinct leaves 1 of 7, 49 or 343 rows, but for c alone.
+				wantCost(t, b, q, []int{2, 0, 1}, 2+1+1, api.OK)
+				wantPlan(t, b, q, roomySteps())
 			}
 		})
 	}

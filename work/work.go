@@ -18,16 +18,24 @@ func (w *Worker) Call(f *typed.Func, args []api.Cell) (api.Cell, api.Errno) {
 	return frame{Worker: w, args: args}.value(f.Body)
 }
 
-// frame is the working out of one body: what its parameters are.
+// Value works out an expression where the columns have these cells, or tells the fault that ended it.
+func (w *Worker) Value(e typed.Expr, columns []api.Cell) (api.Cell, api.Errno) {
+	return frame{Worker: w, columns: columns}.value(e)
+}
+
+// frame is the working out of one expression or body: what its columns or its parameters are.
 type frame struct {
 	*Worker
-	args []api.Cell
+	columns []api.Cell
+	args    []api.Cell
 }
 
 func (f frame) value(e typed.Expr) (api.Cell, api.Errno) {
 	switch e.Sort {
 	case typed.User:
 		return cell.Text(f.User), api.OK
+	case typed.Column:
+		return f.columns[e.Place], api.OK
 	case typed.Parameter:
 		return f.args[e.Place], api.OK
 	case typed.BuiltIn:
