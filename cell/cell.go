@@ -75,10 +75,11 @@ func Noted(c api.Cell) string {
 	return "-"
 }
 
-// Compare is below 0, 0 or above 0, as a is below b, like it or above it; the two are of one type.
+// Compare is below 0, 0 or above 0, as a is below b, like it or above it; the two are of one type, and nothing is below all.
 func Compare(a, b api.Cell) int {
+	// The kinds of two cells of one type are unlike only if one is nothing, which has the least kind.
 	// Numbers and truths have no S, and texts no N: only one of the two can tell them apart.
-	return cmp.Or(cmp.Compare(a.N, b.N), strings.Compare(a.S, b.S))
+	return cmp.Or(cmp.Compare(a.Kind, b.Kind), cmp.Compare(a.N, b.N), strings.Compare(a.S, b.S))
 }
 
 // Own is the same cell in memory of its own, for an answer.

@@ -42,7 +42,7 @@ func TestNoted(t *testing.T) {
 }
 
 func TestCompare(t *testing.T) {
-	for _, rising := range [][]api.Cell{{Number(-2), Number(-1), Number(0), Number(10)}, {Text(""), Text("10"), Text("9"), Text("a"), Text("aa"), Text("\xff")}, {Truth(false), Truth(true)}} {
+	for _, rising := range [][]api.Cell{{{}, Number(-2), Number(-1), Number(0), Number(10)}, {{}, Text(""), Text("10"), Text("9"), Text("a"), Text("aa"), Text("\xff")}, {{}, Truth(false), Truth(true)}} {
 		for i, a := range rising {
 			for j, b := range rising {
 				if got := Compare(a, b); (got < 0) != (i < j) || (got == 0) != (i == j) {

@@ -8,6 +8,7 @@ import (
 	"curtain/expr"
 	"curtain/plan"
 	"curtain/query"
+	"curtain/walk"
 	"curtain/work"
 	"curtain/wrong"
 )
@@ -80,8 +81,11 @@ func Plan(b api.Base, user string, q api.Query) ([]api.Step, api.Errno) {
 	return plan.Steps(read), api.OK
 }
 
-// Run answers a query (P10). It tells what is wrong with one so far; a right one is not gone through yet.
+// Run answers a query (P10).
 func Run(b api.Base, user string, q api.Query) (api.Answer, api.Errno) {
-	_, bad := query.Read(b, user, q)
-	return api.Answer{}, bad
+	read, bad := query.Read(b, user, q)
+	if bad != api.OK {
+		return api.Answer{}, bad
+	}
+	return walk.Answer(read, user), api.OK
 }

@@ -162,8 +162,95 @@ func TestPlanAnswersNewMemory(t *testing.T) {
 	wantPlan(t, b, q, want)
 }
 
+// ran is a base and a query of which the answer has some rows, texts and notes, but fewer rows than there are.
+func ran() (api.Base, api.Query) {
+	b := roomyBase()
+	b.Tables[0].Rows = roomy([][]api.Cell{roomy(in(num(3), txt("x"), yes()), num(95)), roomy(in(num(1), txt("y"), yes()), num(95)), roomy(in(num(2), txt("z"), yes()), num(95))}, in(num(94)))
+	return b, api.Query{
+		From:  roomy([]api.Item{{Table: "people", As: "a"}}, api.Item{Table: "people", As: "spare"}),
+		Where: "(loud a.h)",
+		Outs:  roomy([]string{"a.k", "a.s", "(note a.s)"}, "spare"),
+		Order: roomy([]api.Key{{Out: 0}}, api.Key{Out: 1, Down: true}),
+		Limit: 2,
+	}
+}
+
+// ranShown is the answer to ran.
+const ranShown = "1 'y' 'y',2 'z' 'z'|true 'x' true 'y' true 'z'|0"
+
+// overwrite writes into all of a list, spare room too.
+func overwrite[T any](list []T, x T) {
+	list = list[:cap(list)]
+	for i := range list {
+		list[i] = x
+	}
+}
+
+func TestRunDoesNotWriteIntoItsArguments(t *testing.T) {
+	b, q := ran()
+	wantRun(t, b, q, ranShown)
+	q.Outs[0] = "(/ a.k (- a.k 2))"
+	wantRun(t, b, q, "|true 'x' true 'y' true|10")
+	q.Outs[0] = "a.k"
+	wantB, wantQ := ran()
+	if !reflect.DeepEqual(whole(b), whole(wantB)) {
+		t.Errorf("the base is now %+v", whole(b))
+	}
+	if !reflect.DeepEqual(wholeQuery(q), wholeQuery(wantQ)) {
+		t.Errorf("the query is now %+v", wholeQuery(q))
+	}
+}
+
+func TestRunAnswersNewMemory(t *testing.T) {
+	b, q := ran()
+	for i := range 2 {
+		first, _ := Run(b, "me", q)
+		second, _ := Run(b, "me", q)
+		// What is written into one row is not to be seen in another one.
+		overwrite(first.Rows[i], txt("written"))
+		if other := first.Rows[1-i]; slices.Contains(other[:cap(other)], txt("written")) {
+			t.Errorf("the rows %d and %d share memory: %s", i, 1-i, shown(first))
+		}
+		overwrite(first.Rows, in(txt("written")))
+		overwrite(first.Notes, "written")
+		if shown(second) != ranShown {
+			t.Errorf("two answers share memory: %s", shown(second))
+		}
+		wantRun(t, b, q, ranShown)
+	}
+	q.Outs[0] = "(/ a.k (- a.k 2))"
+	first, _ := Run(b, "me", q)
+	overwrite(first.Notes, "written")
+	wantRun(t, b, q, "|true 'x' true 'y' true|10")
+}
+
+func TestRunAnswersNewTexts(t *testing.T) {
+	user, text, out := string([]byte("me")), string([]byte("abc")), string([]byte("'quoted'"))
+	x := stock("a", 1, in(num(1), txt(text), yes()))
+	q := ask(from("a"), "", "(note user)", "(note a.s)", out, "(cat a.s)")
+	a, e := Run(withTables(x), user, q)
+	if shown(a) != "'me' 'abc' 'quoted' 'abc'|'me' 'abc'|0" || e != api.OK {
+		t.Fatalf("Run of texts: %s, %d", shown(a), e)
+	}
+	texts := slices.Clone(a.Notes)
+	for _, c := range a.Rows[0] {
+		texts = append(texts, c.S)
+	}
+	for i, told := range texts {
+		if sharesMemory(told, user) || sharesMemory(told, text) || sharesMemory(told, out) {
+			t.Errorf("%q is a piece of an argument", told)
+		}
+		for _, other := range texts[:i] {
+			if sharesMemory(told, other) {
+				t.Errorf("%q and %q share memory", told, other)
+			}
+		}
+	}
+}
+
 func TestCallsHangOnTheirArgumentsAlone(t *testing.T) {
 	b, q := roomyBase(), roomyQuery()
+	runB, runQ := ran()
 	var joined sync.WaitGroup
 	for i := range 8 {
 		joined.Go(func() {
@@ -178,6 +265,7 @@ func TestCallsHangOnTheirArgumentsAlone(t *testing.T) {
 				// Each 3 of a Distinct leaves 1 of 7, 49 or 343 rows, but for c alone.
 				wantCost(t, b, q, []int{2, 0, 1}, 2+1+1, api.OK)
 				wantPlan(t, b, q, roomySteps())
+				wantRun(t, runB, runQ, ranShown)
 			}
 		})
 	}

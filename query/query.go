@@ -1,4 +1,4 @@
-// Package query: queries: what is wrong with them, their items, and the parts of their condition.
+// Package query: queries: what is wrong with them, their items, the parts of their condition, and their Outs.
 package query
 
 import (
@@ -11,10 +11,12 @@ import (
 	"curtain/wrong"
 )
 
-// Query is a query that is right: the tables of its items, and the parts of its condition.
+// Query is a query that is right: the tables of its items, the parts of its condition, and its Outs, read.
 type Query struct {
+	Given  api.Query
 	Tables []base.Table
 	Parts  []Part
+	Outs   []typed.Expr
 }
 
 // Read reads a query, or tells what is wrong with the user, the base or the query.
@@ -30,10 +32,20 @@ func Read(b api.Base, user string, q api.Query) (Query, api.Errno) {
 	cols := columnsOf(tables, q.From)
 	scope := typed.Scope{Columns: cols.names(), Funcs: known.Funcs}
 	conditions, bad := readWhere(scope, q.Where)
-	if bad = wrong.First(bad, outsWrong(scope, q.Outs)); bad != api.OK {
+	outs, badOut := readOuts(scope, q.Outs)
+	if bad = wrong.First(bad, badOut); bad != api.OK {
 		return Query{}, bad
 	}
-	return Query{Tables: tables, Parts: cols.parts(conditions)}, api.OK
+	return Query{Given: q, Tables: tables, Parts: cols.parts(conditions), Outs: outs}, api.OK
+}
+
+// Place is the place that an expression has of an item's first column; those of its others follow.
+func (q Query) Place(item int) int {
+	place := 0
+	for _, table := range q.Tables[:item] {
+		place += len(table.Given.Cols)
+	}
+	return place
 }
 
 // OrderWrong is an error, if the order does not have each item's number just once.
@@ -92,11 +104,14 @@ func readWhere(scope typed.Scope, where string) ([]typed.Expr, api.Errno) {
 	return split(condition), api.OK
 }
 
-func outsWrong(scope typed.Scope, outs []string) api.Errno {
+func readOuts(scope typed.Scope, outs []string) ([]typed.Expr, api.Errno) {
+	var list []typed.Expr
 	for _, out := range outs {
-		if _, bad := scope.Read(out); bad != api.OK {
-			return bad
+		e, bad := scope.Read(out)
+		if bad != api.OK {
+			return nil, bad
 		}
+		list = append(list, e)
 	}
-	return api.OK
+	return list, api.OK
 }

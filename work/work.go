@@ -23,6 +23,11 @@ func (w *Worker) Value(e typed.Expr, columns []api.Cell) (api.Cell, api.Errno) {
 	return frame{Worker: w, columns: columns}.value(e)
 }
 
+// Values works out expressions from left to right, as Value does, or tells the fault that ended them.
+func (w *Worker) Values(list []typed.Expr, columns []api.Cell) ([]api.Cell, api.Errno) {
+	return frame{Worker: w, columns: columns}.values(list)
+}
+
 // frame is the working out of one expression or body: what its columns or its parameters are.
 type frame struct {
 	*Worker
